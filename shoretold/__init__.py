@@ -1,0 +1,1 @@
+"""Shoretold: an island of ditches told by its shore."""
