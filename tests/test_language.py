@@ -1,6 +1,7 @@
 """The package keeps to the small part of Python that it is written in: what can be read off its files."""
 
 import ast
+import builtins
 import pathlib
 import re
 import unittest
@@ -25,6 +26,8 @@ NODES = ("Module Expr Constant ImportFrom alias FunctionDef arguments arg Return
          "FloorDiv Mod Pow LShift RShift BitAnd BitOr BitXor Compare Eq NotEq Lt LtE Gt GtE In NotIn Is IsNot "
          "ListComp DictComp SetComp comprehension JoinedStr FormattedValue Starred").split()
 TOP_NODES = (ast.Expr, ast.ImportFrom, ast.FunctionDef, ast.ClassDef, ast.Assign)
+WALKED = ("zip", "enumerate", "reversed", "range", "items", "keys", "values")
+WALKERS = ("list", "tuple", "dict", "sorted", "sum", "any", "all", "enumerate", "zip", "bytes", "min", "max", "join")
 
 
 def bound_names(tree):
@@ -44,6 +47,17 @@ def bound_names(tree):
     return found
 
 
+def called(node):
+    """The bare name by which something is called, None where nothing is."""
+    if not isinstance(node, ast.Call):
+        return None
+    return node.func.id if isinstance(node.func, ast.Name) else node.func.attr
+
+
+def makes_set(node):
+    return isinstance(node, (ast.Set, ast.SetComp)) or called(node) == "set"
+
+
 class Language(unittest.TestCase):
     @classmethod
     def setUpClass(cls):
@@ -52,7 +66,9 @@ class Language(unittest.TestCase):
         nodes = [node for tree in cls.trees.values() for node in ast.walk(tree)]
         classes = [node for node in nodes if isinstance(node, ast.ClassDef)]
         cls.methods = {part.name for node in classes for part in node.body if isinstance(part, ast.FunctionDef)}
-        cls.fields = {node.attr for node in nodes if isinstance(node, ast.Attribute) and isinstance(node.ctx, ast.Store)}
+        cls.fields = {node.attr for node in nodes
+                      if isinstance(node, ast.Attribute) and isinstance(node.ctx, ast.Store)}
+        cls.above = {part: node for node in nodes for part in ast.iter_child_nodes(node)}
 
     def nodes(self, kind):
         for path, tree in self.trees.items():
@@ -113,10 +129,44 @@ class Language(unittest.TestCase):
             for word in bound - {"__init__", "__eq__", "__repr__", "__str__", "__len__"}:
                 self.assertFalse(word.startswith("_"), (path.name, word))
                 self.assertNotIn(word, UNUSED_NAMES, path.name)
-                self.assertNotIn(word, PYTHONS_OWN, path.name)
+                self.assertNotIn(word, dir(builtins), path.name)
             for node in ast.walk(tree):
                 if isinstance(node, ast.Name):
                     self.assertIn(node.id, bound | set(PYTHONS_OWN), (path.name, node.lineno))
+
+    def test_no_local_is_called_like_an_import_or_a_class(self):
+        for path, tree in self.trees.items():
+            taken = {row.name for row in tree.body if isinstance(row, ast.ClassDef)}
+            taken |= {part.name for row in tree.body if isinstance(row, ast.ImportFrom) for part in row.names}
+            for row in tree.body:
+                if isinstance(row, (ast.FunctionDef, ast.ClassDef)):
+                    parts = [ast.Module([part], []) for part in row.body]
+                    parts += [row.args] if isinstance(row, ast.FunctionDef) else []
+                    self.assertEqual({name for part in parts for name in bound_names(part)} & taken, set(), path.name)
+
+    def test_no_two_files_draw_from_one_another(self):
+        drawn = {path.stem: {row.module.split(".")[1] for row in tree.body if isinstance(row, ast.ImportFrom)}
+                 for path, tree in self.trees.items()}
+        while drawn:
+            free = [name for name in drawn if not drawn[name] & set(drawn)]
+            self.assertTrue(free, sorted(drawn))
+            drawn = {name: drawn[name] for name in drawn if name not in free}
+
+    def test_sets_stand_where_their_order_is_not_told(self):
+        for name, node in self.nodes((ast.Set, ast.SetComp, ast.Call)):
+            if makes_set(node):
+                user = self.above[node]
+                while isinstance(user, ast.BinOp):
+                    user = self.above[user]
+                plain = called(user) in ("sorted", "len") and not user.keywords
+                self.assertTrue(plain or isinstance(user, (ast.Compare, ast.Assign)), (name, node.lineno))
+
+    def test_walked_at_once(self):
+        for name, node in self.nodes(ast.Call):
+            if called(node) in WALKED:
+                user = self.above[node]
+                self.assertTrue(isinstance(user, (ast.For, ast.comprehension)) or called(user) in WALKERS,
+                                (name, node.lineno))
 
     def test_methods_and_fields(self):
         self.assertEqual(self.methods & self.fields, set())

@@ -9,15 +9,7 @@ from shoretold.errors import Barred, NoDitch, NoPlace, NoPlot
 from shoretold.plots import at_gap, bank, gaps, is_plot, plots, retold
 from shoretold.shore import crossings, ditches, put_in, turned
 from tests import islands
-
-# bo lies within ash, cole crosses ash, elm lies apart from all others.
-ROW = ["ash", "bo", "bo", "cole", "ash", "cole", "elm", "elm"]
-NO_PLOTS = [
-    ("bo",), ("bo", "cole"), ("ash", "bo", "cole"), ("ash", "elm"), ("bo", "elm"), ("cole", "elm"),
-    ("ash", "bo", "cole", "elm"), ("bo", "ash"), ("cole", "ash"), ("ash", "ash"), ("elm", "elm"),
-    ("ash", "bo", "bo"), ("zed",), ("ash", "zed"), ("",), ("", "ash"), ("Ash",), ("ash ",), ("ash bo",),
-    ("a",), ("ash", "cole", "cole"), ("ash", "ash", "bo"), ("cole", "zed"),
-]
+from tests.islands import NO_PLOTS, ROW
 
 
 class Interface(unittest.TestCase):
