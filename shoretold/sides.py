@@ -16,8 +16,7 @@ def across(plot, name):
 
 
 def stepped(row, plot, name, at):
-    """The neighbour of a good plot over a ditch, come to by the step of a number."""
-    ask_ditch(row, name)
+    """The neighbour of a good plot over a ditch of the row, come to by the step of a number."""
     over = across(plot, name)
     if not is_plot(row, over):
         raise NotBeside(at)
@@ -27,6 +26,7 @@ def stepped(row, plot, name, at):
 def beyond(row, plot, name):
     """The neighbour over a ditch."""
     ask_plot(row, plot)
+    ask_ditch(row, name)
     return stepped(row, plot, name, 0)
 
 

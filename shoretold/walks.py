@@ -2,6 +2,7 @@
 
 from shoretold.errors import NoWalk
 from shoretold.plots import ask_plot, plots
+from shoretold.shore import ask_ditch
 from shoretold.sides import across, parting, stepped
 
 
@@ -20,6 +21,9 @@ def far(row, one, other):
 def led(row, plot, steps):
     """The plot to which a walk leads."""
     ask_plot(row, plot)
+    # A stranger at any place of the walk is refused ahead of a step that can't be made.
+    for name in steps:
+        ask_ditch(row, name)
     here = plot
     for at, name in enumerate(steps):
         here = stepped(row, here, name, at)

@@ -113,11 +113,10 @@ class NoPlots(unittest.TestCase):
 
 
 def walked(near, plot, steps):
-    """("led", plot), or the refusal of the first bad step: ("strange", its number) or ("not beside", its number)."""
-    names = {name for sides in near.values() for name in sides}
+    """("led", plot), or the refusal: ("strange", None), else ("not beside", number of the first such step)."""
+    if not {name for sides in near.values() for name in sides}.issuperset(steps):
+        return ("strange", None)
     for at, name in enumerate(steps):
-        if name not in names:
-            return ("strange", at)
         if name not in near[plot]:
             return ("not beside", at)
         plot = near[plot][name]
@@ -165,20 +164,20 @@ class Led(unittest.TestCase):
             for plot in near:
                 steps, goal = islands.drawn_walk(len(plot) + 5, near, plot, 4)
                 for one, other in itertools.combinations_with_replacement(range(len(steps) + 1), 2):
-                    for names in itertools.product(sorted(set(row)), ["zed"]):
+                    for names in itertools.product(sorted(set(row)), ["bo", "zed"]):
                         for first, second in (names, names[::-1]):
                             bad = steps[:one] + [first] + steps[one:other] + [second] + steps[other:]
                             self.led_or_refused(row, near, plot, bad)
                             seen.add(walked(near, plot, bad)[0])
-        self.assertEqual(seen, {"strange", "not beside"})
+        self.assertEqual(seen, {"strange", "not beside", "led"})
 
     def test_both_kinds_by_hand(self):
         due = [
             (["zed"], NoDitch, None), (["bo"], NotBeside, 0), (["zed", "bo"], NoDitch, None),
-            (["bo", "zed"], NotBeside, 0), (["ash", "zed", "elm"], NoDitch, None),
-            (["ash", "elm", "zed"], NotBeside, 1),
+            (["bo", "zed"], NoDitch, None), (["ash", "zed", "elm"], NoDitch, None),
+            (["ash", "elm", "zed"], NoDitch, None), (["ash", "elm", "bo"], NotBeside, 1),
             (["ash", "bo", "cole"], NotBeside, 2), (["ash", "bo", "bo", "bo", "ash"], NotBeside, 4),
-            (["ash"] * 30 + ["bo"], NotBeside, 30), (["ash"] * 30 + ["bo", "bo", "zed"], NotBeside, 30),
+            (["ash"] * 30 + ["bo"], NotBeside, 30), (["ash"] * 30 + ["bo", "bo", "zed"], NoDitch, None),
             (["ash"] * 30 + ["zed", "bo"], NoDitch, None), (["bo", "bo", "bo"], NotBeside, 0),
         ]
         for steps, refusal, at in due:
@@ -363,7 +362,7 @@ class Numbers(unittest.TestCase):
         due = [
             (["ash", "ash", "zed"], NoDitch, None), (["zed", "ash", "ash"], NoDitch, None),
             (["ash", "ash", "bo"], NotBeside, 2), (["bo", "ash", "ash"], NotBeside, 0),
-            (["ash", "ash", "bo", "zed"], NotBeside, 2), (["ash", "ash", "zed", "bo"], NoDitch, None),
+            (["ash", "ash", "bo", "zed"], NoDitch, None), (["ash", "ash", "zed", "bo"], NoDitch, None),
         ]
         for steps, refusal, at in due:
             with self.subTest(steps=steps):
