@@ -54,11 +54,16 @@ def plots(row):
     return in_order([()] + single + double)
 
 
+def bank_of(plot, name):
+    """The bank of a ditch on which a good plot lies."""
+    return "off" if name in plot else "home"
+
+
 def bank(row, plot, name):
     """The bank of a ditch on which a plot lies."""
     ask_plot(row, plot)
     ask_ditch(row, name)
-    return "off" if name in plot else "home"
+    return bank_of(plot, name)
 
 
 def at_gap(row, gap):

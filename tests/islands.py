@@ -1,5 +1,6 @@
 """Rows to test with, and slow reckonings to test against, written from the document alone."""
 
+import functools
 import itertools
 from fractions import Fraction
 
@@ -179,10 +180,13 @@ def off_crossing(row, one, other):
 
 
 def plots_by_spots(row):
-    """All plots of an island that is laid out with straight ditches, in order.
+    """All plots of an island that is laid out with straight ditches, in order."""
+    return list(plots_of_spots(tuple(row)))
 
-    Each plot has a crossing, or the shore, at its edge.
-    """
+
+@functools.lru_cache(None)
+def plots_of_spots(row):
+    # Each plot has a crossing, or the shore, at its edge.
     lines = laid_out(row)
     found = {off_at(lines, bow(2 * gap - 1)) for gap in range(len(row) + 1)}
     for one, other in itertools.combinations(lines, 2):
@@ -247,3 +251,21 @@ def drawn_walk(seed, near, plot, many):
         steps.append(name)
         plot = near[plot][name]
     return steps, plot
+
+
+def crowds(row, seed):
+    """Crowds of none, of one, of some that stand in them several times, and of 60."""
+    there = plots_by_spots(row)
+    some = drawn(seed, there, 4)
+    return [[], there[-1:], some, some + some[:2] + some[:1], drawn(seed + 1, there, 11), drawn(seed + 2, there, 60),
+            drawn(seed + 3, some, 60)]
+
+
+def side_of(plot, name):
+    """The bank of a ditch on which a plot lies."""
+    return ("home", "off")[name in plot]
+
+
+def parted(one, other):
+    """On unlike banks of how many ditches two plots lie."""
+    return len(set(one) ^ set(other))
