@@ -73,21 +73,18 @@ def spans(row):
     return {name: ends(row, name) for name in ditches(row)}
 
 
-def ends_between(pair, span):
-    """How many of a pair of places lie between the two of another pair."""
-    return len([place for place in pair if span[0] < place < span[1]])
-
-
 def lie_of(here, there):
     """How the ditch with the one pair of places lies to that with the other pair."""
     if here == there:
         return "same"
-    inner = ends_between(here, there)
-    if inner == 1:
+    first = there[0] < here[0] < there[1]
+    last = there[0] < here[1] < there[1]
+    if first != last:
         return "cross"
-    if inner == 2:
+    if first:
         return "within"
-    return "around" if ends_between(there, here) == 2 else "apart"
+    # Neither end lies between the other's two, so both of those lie between these, or none does.
+    return "around" if here[0] < there[0] < here[1] else "apart"
 
 
 def lie(row, one, other):

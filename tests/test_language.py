@@ -168,6 +168,30 @@ class Language(unittest.TestCase):
                 self.assertTrue(isinstance(user, (ast.For, ast.comprehension)) or called(user) in WALKERS,
                                 (name, node.lineno))
 
+    def test_errors_are_made_on_the_spot_and_taken_by_their_own_names(self):
+        own = {node.name for name, node in self.nodes(ast.ClassDef)}
+        for name, node in self.nodes(ast.Raise):
+            self.assertIn(called(node.exc), own, (name, node.lineno))
+            self.assertEqual(node.exc.keywords, [], (name, node.lineno))
+        for name, node in self.nodes(ast.ExceptHandler):
+            self.assertIsInstance(node.type, ast.Name, (name, node.lineno))
+            self.assertIn(node.type.id, own, (name, node.lineno))
+
+    def test_lists_and_dicts_of_a_files_top_are_only_asked(self):
+        for path, tree in self.trees.items():
+            kept = {row.targets[0].id for row in tree.body
+                    if isinstance(row, ast.Assign) and isinstance(row.value, (ast.List, ast.Dict))}
+            for node in ast.walk(tree):
+                if isinstance(node, ast.Name) and node.id in kept and isinstance(node.ctx, ast.Load):
+                    user = self.above[node]
+                    asked = isinstance(user, ast.Subscript) and isinstance(user.ctx, ast.Load)
+                    self.assertTrue(asked or isinstance(user, ast.Compare), (path.name, node.lineno))
+
+    def test_init_gives_nothing_back(self):
+        for name, node in self.nodes(ast.FunctionDef):
+            if node.name == "__init__":
+                self.assertFalse([part for part in ast.walk(node) if isinstance(part, ast.Return)], name)
+
     def test_methods_and_fields(self):
         self.assertEqual(self.methods & self.fields, set())
         known = self.methods | self.fields | set(METHODS)
